@@ -1,0 +1,1 @@
+"""Rows of trees of hands and tasks, matched by orders."""

@@ -1,0 +1,44 @@
+"""The names, the arguments and the homes of all that the document lists."""
+
+import importlib
+import inspect
+import unittest
+
+FUNCTIONS = {
+    "signs": {"words": "text", "text_of": "words", "number_of": "word", "word_of": "number"},
+    "webs": {
+        "is_web": "thing",
+        "is_place": "web thing",
+        "is_tie": "web thing",
+        "is_lot": "web side thing",
+        "hangs": "many number ties",
+        "sizes": "web",
+        "ties_at": "web place",
+        "neighbours_of": "web side lot",
+        "pieces": "web side lot",
+        "rank": "web side lot",
+        "is_needed": "web tie",
+    },
+}
+
+
+class Interface(unittest.TestCase):
+    def test_names_and_arguments(self):
+        for file, functions in FUNCTIONS.items():
+            module = importlib.import_module("eachhandtied." + file)
+            for name, arguments in functions.items():
+                with self.subTest(file=file, name=name):
+                    told = getattr(module, name)
+                    self.assertEqual(list(inspect.signature(told).parameters), arguments.split())
+
+    def test_each_is_defined_where_it_is_listed(self):
+        for file, functions in FUNCTIONS.items():
+            module = importlib.import_module("eachhandtied." + file)
+            for name in functions:
+                with self.subTest(file=file, name=name):
+                    self.assertTrue(inspect.isfunction(getattr(module, name)))
+                    self.assertEqual(getattr(module, name).__module__, module.__name__)
+
+
+if __name__ == "__main__":
+    unittest.main()
