@@ -3,6 +3,7 @@ lists, or raises Unfit; each good_ asks a value that has tuples already."""
 
 from eachhandtied.errors import NoPlace, NoTie, Unfit
 from eachhandtied.joins import holds
+from eachhandtied.owners import bar_of
 from eachhandtied.plain import are_numbers, is_number, is_pair, rises, tupled
 
 
@@ -43,6 +44,28 @@ def good_lot(web, side, thing):
     if not are_numbers(thing) or len(thing) == 0 or not rises(thing):
         return False
     return thing[0] >= 0 and thing[-1] < web[side]
+
+
+def good_tree(web, thing):
+    """Whether thing is a TREE of web."""
+    many, number, ties = web
+    if not isinstance(thing, tuple) or len(thing) != many + number - 1:
+        return False
+    if not good_ties(many, number, thing) or not rises(thing):
+        return False
+    return all([tie in ties for tie in thing]) and holds(many, number, thing)
+
+
+def good_call(web, side, thing):
+    """Whether thing is a CALL of this SIDE."""
+    if not isinstance(thing, tuple) or len(thing) != web[side] or not are_numbers(thing):
+        return False
+    return min(thing) >= 0 and sum(thing) == web[1 - side] - 1
+
+
+def good_row(web, side, thing):
+    """Whether thing is a ROW of web, of this SIDE."""
+    return good_call(web, side, thing) and not bar_of(web, side, thing)
 
 
 def fit_number(number):
@@ -98,6 +121,38 @@ def fit_lot(web, side, lot):
     return told
 
 
+def fit_tree(web, tree):
+    """tree, if it is a TREE of web."""
+    told = tupled(tree, 2)
+    if not good_tree(web, told):
+        raise Unfit()
+    return told
+
+
+def fit_call(web, side, call):
+    """call, if it is a CALL of this SIDE."""
+    told = tupled(call, 1)
+    if not good_call(web, side, told):
+        raise Unfit()
+    return told
+
+
+def fit_row(web, side, row):
+    """row, if it is a ROW of web, of this SIDE."""
+    told = tupled(row, 1)
+    if not good_row(web, side, told):
+        raise Unfit()
+    return told
+
+
+def fit_names(many, names):
+    """names, if they are all numbers of a SIDE of so many, each once."""
+    told = tupled(names, 1)
+    if not are_numbers(told) or sorted(told) != list(range(many)):
+        raise Unfit()
+    return told
+
+
 def need_place(web, place):
     """Nothing; NoPlace if place is none of web."""
     if not good_place(web, place):
@@ -107,4 +162,10 @@ def need_place(web, place):
 def need_tie(web, tie):
     """Nothing; NoTie if tie is none of web."""
     if not good_tie(web, tie):
+        raise NoTie(tie)
+
+
+def need_both_ends(web, tie):
+    """Nothing; NoTie if tie is beyond the HANDS or TASKS of web."""
+    if not good_place(web, (0, tie[0])) or not good_place(web, (1, tie[1])):
         raise NoTie(tie)

@@ -1,5 +1,8 @@
 """Plain values: which are numbers, pairs, sets, and lists taken for tuples."""
 
+# A longer list of what a WEB has is not told.
+MOST_TOLD = 2000
+
 
 def is_number(thing):
     """Whether thing is an int that is not a bool."""

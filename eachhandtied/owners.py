@@ -1,0 +1,115 @@
+"""Who is given whom: the numbers of a CALL are handed out among the places of
+the other SIDE, each of these given to one place that it is tied to, its owner,
+and one of them, left over, to none."""
+
+from eachhandtied.joins import near_of
+
+
+def reach(near, owner, start):
+    """How far start comes, from places to all they are tied to, from these to
+    their owners: the triple of an other without an owner (None if there is
+    none), by which place each other was come to, and by which other each
+    place."""
+    came, by = {}, {start: None}
+    waiting = [start]
+    while waiting:
+        place = waiting.pop()
+        for other in near[place]:
+            if other in came:
+                continue
+            came[other] = place
+            holder = owner[other]
+            if holder is None:
+                return other, came, by
+            if holder not in by:
+                by[holder] = other
+                waiting.append(holder)
+    return None, came, by
+
+
+def reached(near, owner, start):
+    """The set of the places that start comes to, if all have owners."""
+    return tuple(sorted(list(reach(near, owner, start)[2])))
+
+
+def give(near, owner, start):
+    """Give start one more in owner, if it comes to one that none has."""
+    other, came, by = reach(near, owner, start)
+    # Each place on the way gives on the other by which it was come to.
+    while other is not None:
+        place = came[other]
+        owner[other] = place
+        other = by[place]
+
+
+def given(near, many, call):
+    """The owners of so many others, None for who has none, when each place is
+    given as many as call tells, or as many as can be."""
+    owner = [None] * many
+    for place, number in enumerate(call):
+        for k in range(number):
+            give(near, owner, place)
+    return owner
+
+
+def bar_of(web, side, call):
+    """A BAR of call; () if there is none, call being a ROW."""
+    owner = given(near_of(web, side), web[1 - side], call)
+    back = near_of(web, 1 - side)
+    owned = [[] for k in range(web[side])]
+    for other, place in enumerate(owner):
+        if place is not None:
+            owned[place].append(other)
+    come = {}
+    waiting = [owner.index(None)]
+    while waiting:
+        other = waiting.pop()
+        for place in back[other]:
+            if place not in come:
+                come[place] = True
+                waiting.extend(owned[place])
+    # From the first other that none has one comes to no place that lacks some.
+    # So those not come to, if there are any, lack or own all their neighbours;
+    # if there are none, each place may have one more: call is a ROW.
+    return tuple([place for place in range(web[side]) if place not in come])
+
+
+def owners_with(near, owner, place):
+    """The owners when place is given one more, too: then all have one."""
+    fuller = list(owner)
+    give(near, fuller, place)
+    return fuller
+
+
+def rows_around(near, row, owner):
+    """The list of the pairs of a ROW that is row but for one more at a place
+    and one less at another one, and of its owners."""
+    found = []
+    for place in range(len(row)):
+        fuller = owners_with(near, owner, place)
+        for less in reached(near, fuller, place):
+            if less != place:
+                held = list(fuller)
+                held[held.index(less)] = None
+                more = list(row)
+                more[place] += 1
+                more[less] -= 1
+                found.append((tuple(more), held))
+    return found
+
+
+def rows_up_to(web, side, row, most):
+    """The list, ascending, of all ROWS, row being one of them; None if they
+    are more than most."""
+    near = near_of(web, side)
+    found = {row: True}
+    waiting = [(row, given(near, web[1 - side], row))]
+    while waiting:
+        own, owner = waiting.pop()
+        for more, held in rows_around(near, own, owner):
+            if more not in found:
+                found[more] = True
+                waiting.append((more, held))
+        if len(found) > most:
+            return None
+    return sorted(list(found))
