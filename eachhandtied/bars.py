@@ -5,7 +5,7 @@ from itertools import combinations
 from eachhandtied.errors import CanNot, NoPlace, TooMany
 from eachhandtied.fit import fit_call, fit_lot, fit_number, fit_row, fit_side, fit_web, good_lot, good_place
 from eachhandtied.joins import met_by, near_of, rank_of
-from eachhandtied.owners import bar_of, given, owners_with, reached
+from eachhandtied.owners import bar_of, given, least_full_with, owners_with, reached
 from eachhandtied.plain import MOST_TOLD
 
 
@@ -111,9 +111,7 @@ def least_full(web, side, row, number):
     row, number = fit_row(web, side, row), fit_number(number)
     if not good_place(web, (side, number)):
         raise NoPlace((side, number))
-    near = near_of(web, side)
-    owner = given(near, web[1 - side], row)
-    return reached(near, owners_with(near, owner, number), number)
+    return least_full_with(web, side, row, number)
 
 
 def most_more(web, side, row, lot):

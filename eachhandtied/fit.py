@@ -4,7 +4,9 @@ lists, or raises Unfit; each good_ asks a value that has tuples already."""
 from eachhandtied.errors import NoPlace, NoTie, Unfit
 from eachhandtied.joins import holds
 from eachhandtied.owners import bar_of
-from eachhandtied.plain import are_numbers, is_number, is_pair, rises, tupled
+from eachhandtied.plain import are_numbers, is_number, is_pair, rises, same, tupled
+from eachhandtied.rings import is_ring
+from eachhandtied.spans import shares_in
 
 
 def good_ties(many, number, thing):
@@ -66,6 +68,41 @@ def good_call(web, side, thing):
 def good_row(web, side, thing):
     """Whether thing is a ROW of web, of this SIDE."""
     return good_call(web, side, thing) and not bar_of(web, side, thing)
+
+
+def good_order(web, thing):
+    """Whether thing is an ORDER of web."""
+    if not isinstance(thing, tuple) or len(thing) != len(web[2]):
+        return False
+    return all([is_pair(own) for own in thing]) and sorted(thing) == list(web[2])
+
+
+def good_filling(web, side, call, thing):
+    """Whether thing is a FILLING of call."""
+    if not are_numbers(thing) or len(thing) != len(web[2]) or min(thing) < 0:
+        return False
+    many = web[side]
+    here, there = [0] * many, [0] * web[1 - side]
+    for tie, number in zip(web[2], thing):
+        here[tie[side]] += number
+        there[tie[1 - side]] += number
+    return here == [many * own + 1 for own in call] and there == [many] * len(there)
+
+
+def good_shares(web, side, thing):
+    """Whether thing are the pairs of a TIE of some TREE and its SHARE."""
+    if not isinstance(thing, tuple) or not all([isinstance(own, tuple) and len(own) == 2 for own in thing]):
+        return False
+    tree = tuple([own[0] for own in thing])
+    if not good_tree(web, tree):
+        return False
+    shares = shares_in(web, tree, side)
+    return all([same(own[1], shares[own[0]]) for own in thing])
+
+
+def good_handing(web, side, thing):
+    """Whether thing is a pair of unlike numbers of this SIDE."""
+    return is_pair(thing) and thing[0] != thing[1] and all([0 <= own < web[side] for own in thing])
 
 
 def fit_number(number):
@@ -149,6 +186,62 @@ def fit_names(many, names):
     """names, if they are all numbers of a SIDE of so many, each once."""
     told = tupled(names, 1)
     if not are_numbers(told) or sorted(told) != list(range(many)):
+        raise Unfit()
+    return told
+
+
+def fit_order(web, order):
+    """order, if it is an ORDER of web."""
+    told = tupled(order, 2)
+    if not good_order(web, told):
+        raise Unfit()
+    return told
+
+
+def fit_filling(web, side, call, filling):
+    """filling, if it is a FILLING of call."""
+    told = tupled(filling, 1)
+    if not good_filling(web, side, call, told):
+        raise Unfit()
+    return told
+
+
+def fit_shares(web, side, shares):
+    """shares, if they are the pairs of a TIE of some TREE and its SHARE."""
+    told = tupled(shares, 3)
+    if not good_shares(web, side, told):
+        raise Unfit()
+    return told
+
+
+def fit_ring(first, second, ring):
+    """ring, if it goes round over TIES of first and back over those of second."""
+    told = tupled(ring, 1)
+    if not is_ring(first, second, told):
+        raise Unfit()
+    return told
+
+
+def fit_fall(web, fall):
+    """fall, if it is a pair of TIES of web."""
+    told = tupled(fall, 2)
+    if not isinstance(told, tuple) or len(told) != 2 or not all([good_tie(web, own) for own in told]):
+        raise Unfit()
+    return told
+
+
+def fit_handing(web, side, handing):
+    """handing, if it is a pair of unlike numbers of this SIDE."""
+    told = tupled(handing, 1)
+    if not good_handing(web, side, told):
+        raise Unfit()
+    return told
+
+
+def fit_plan(web, side, plan):
+    """plan, if it is a tuple of pairs of unlike numbers of this SIDE."""
+    told = tupled(plan, 2)
+    if not isinstance(told, tuple) or not all([good_handing(web, side, own) for own in told]):
         raise Unfit()
     return told
 

@@ -52,26 +52,44 @@ def given(near, many, call):
     return owner
 
 
-def bar_of(web, side, call):
-    """A BAR of call; () if there is none, call being a ROW."""
-    owner = given(near_of(web, side), web[1 - side], call)
-    back = near_of(web, 1 - side)
-    owned = [[] for k in range(web[side])]
+def come_from(back, owner, start):
+    """By which other each place is come to from start, when one goes from
+    others to all places tied to them, from these to all that they own."""
+    owned = {}
     for other, place in enumerate(owner):
         if place is not None:
-            owned[place].append(other)
+            owned.setdefault(place, []).append(other)
     come = {}
-    waiting = [owner.index(None)]
+    waiting = [start]
     while waiting:
         other = waiting.pop()
         for place in back[other]:
             if place not in come:
-                come[place] = True
-                waiting.extend(owned[place])
+                come[place] = other
+                waiting.extend(owned.get(place, []))
+    return come
+
+
+def bar_of(web, side, call):
+    """A BAR of call; () if there is none, call being a ROW."""
+    owner = given(near_of(web, side), web[1 - side], call)
+    come = come_from(near_of(web, 1 - side), owner, owner.index(None))
     # From the first other that none has one comes to no place that lacks some.
     # So those not come to, if there are any, lack or own all their neighbours;
     # if there are none, each place may have one more: call is a ROW.
     return tuple([place for place in range(web[side]) if place not in come])
+
+
+def tree_given(web, side, call):
+    """A TREE whose ROW of this SIDE call is; () if there is none."""
+    owner = given(near_of(web, side), web[1 - side], call)
+    come = come_from(near_of(web, 1 - side), owner, owner.index(None))
+    if len(come) < web[side]:
+        return ()
+    # Each place has a TIE to all that it owns, and one by which it is come to.
+    ends = [(place, other) for other, place in enumerate(owner) if place is not None]
+    ends.extend([(place, come[place]) for place in come])
+    return tuple(sorted([(own[side], own[1 - side]) for own in ends]))
 
 
 def owners_with(near, owner, place):
@@ -79,6 +97,24 @@ def owners_with(near, owner, place):
     fuller = list(owner)
     give(near, fuller, place)
     return fuller
+
+
+def least_full_with(web, side, row, place):
+    """The least LOT with place that is full for row: those that can give one
+    of theirs to place are all of it but place, maybe, itself."""
+    near = near_of(web, side)
+    owner = given(near, web[1 - side], row)
+    return reached(near, owners_with(near, owner, place), place)
+
+
+def handing_toward(web, side, row, goal):
+    """A HANDING of row, which is not goal, from a place that has more in row
+    than in goal, another ROW, to one that has less."""
+    more = [place for place in range(web[side]) if row[place] < goal[place]][0]
+    lot = least_full_with(web, side, row, more)
+    # On a LOT that is full for row no ROW comes to more than row does; as goal
+    # has more at one place of it, it has less at another one.
+    return [place for place in lot if row[place] > goal[place]][0], more
 
 
 def rows_around(near, row, owner):

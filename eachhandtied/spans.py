@@ -111,3 +111,41 @@ def part_in(tree, tie, side):
     """The set of the PLACES on the side of tie's end of this SIDE."""
     left = [own for own in tree if own != tie]
     return tuple(sorted(list(steps_toward(left, (side, tie[side])))))
+
+
+def swapped(tree, put, out):
+    """tree with put in the place of out."""
+    return tuple(sorted([own for own in tree if own != out] + [put]))
+
+
+def beyond_in(tree, numbers):
+    """For each TIE of tree the pair of its end away from HAND 0 and what the
+    numbers of all PLACES that hang together with this end come to."""
+    toward = steps_toward(tree, (0, 0))
+    come = {place: numbers[place] for place in toward}
+    found = {}
+    # A PLACE stands in toward behind the one to which it goes.
+    for place in reversed(list(toward)):
+        step = toward[place]
+        if step is not None:
+            tie, at = step
+            found[tie] = (place, come[place])
+            come[at] += come[place]
+    return found
+
+
+def shares_in(web, tree, side):
+    """The SHARE of each TIE of tree by this SIDE."""
+    numbers = {(own, number): 1 if own == side else 0 for own in (0, 1) for number in range(web[own])}
+    beyond = beyond_in(tree, numbers)
+    found = {}
+    for tie in tree:
+        end, many = beyond[tie]
+        found[tie] = many if end[0] == side else web[side] - many
+    return found
+
+
+def shares_along(web, tree, ties, side):
+    """The SHARES of tree by this SIDE for all ties, 0 for those not of it."""
+    shares = shares_in(web, tree, side)
+    return tuple([shares.get(tie, 0) for tie in ties])

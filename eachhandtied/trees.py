@@ -3,7 +3,7 @@
 from eachhandtied.errors import CanNot
 from eachhandtied.few import few_trees
 from eachhandtied.fit import fit_pair, fit_side, fit_tree, fit_web, good_tree, need_place, need_tie
-from eachhandtied.spans import first_tree, how_many_trees, part_in, steps_of, way_in, way_round
+from eachhandtied.spans import first_tree, how_many_trees, part_in, steps_of, swapped, way_in, way_round
 
 
 def is_tree(web, thing):
@@ -65,7 +65,7 @@ def changed(web, tree, put, out):
     # The WAY round put is put alone if that is of tree.
     if put in tree or out not in way_round(tree, put):
         raise CanNot()
-    return tuple(sorted([own for own in tree if own != out] + [put]))
+    return swapped(tree, put, out)
 
 
 def ends_of(web, tree):

@@ -1,54 +1,14 @@
 """[2]: what holds for the calls of all functions: lists for tuples, names,
 arguments left as they are, new lists, Unfit ahead of all other errors."""
 
-import copy
 import unittest
 
 from eachhandtied import bars, changed, rows, signs, trees, webs
 from eachhandtied.errors import CanNot, NoPlace, NoTie, TooMany, Unfit
-from tests.walks import listed
-from tests.wrong import NO_LOTS, NO_PAIRS, NO_SIDES, NO_WEBS, raised
+from tests.call_checks import CallChecks
+from tests.wrong import FULL, HOUSE, STAR, TREE, raised
+from tests.wrong import NO_CALLS, NO_LOTS, NO_NAMES, NO_NUMBERS, NO_PAIRS, NO_ROWS, NO_SIDES, NO_TREES, NO_WEBS
 
-HOUSE = (3, 3, ((0, 0), (0, 1), (1, 0), (1, 1), (2, 1), (2, 2)))
-TREE = ((0, 0), (0, 1), (1, 1), (2, 1), (2, 2))
-FULL = (12, 5, tuple((hand, task) for hand in range(12) for task in range(5)))
-STAR = (12, 1, tuple((hand, 0) for hand in range(12)))
-
-NO_TREES = [
-    None,
-    0,
-    "tree",
-    (),
-    TREE[:4],
-    TREE[::-1],
-    TREE + ((1, 0),),
-    TREE[1:] + TREE[:1],
-    ((0, 0), (0, 1), (1, 0), (1, 1), (2, 2)),
-    ((0, 0), (0, 0), (0, 1), (1, 1), (2, 2)),
-    ((0, 0), (0, 1), (1, 1), (2, 0), (2, 2)),
-    ((0, 0), (0, 1), (1, 1), (2, 2), (2, 3)),
-    ((False, 0),) + TREE[1:],
-    ((0, 0, 0),) + TREE[1:],
-    (None,) + TREE[1:],
-]
-NO_CALLS = [
-    None,
-    2,
-    "101",
-    (),
-    (2,),
-    (1, 1),
-    (1, 1, 0, 0),
-    (1, 1, 1),
-    (0, 0, 0),
-    (3, -1, 0),
-    (True, 0, 1),
-    (None, 1, 1),
-    ((1,), 0, 1),
-]
-NO_ROWS = NO_CALLS + [(2, 0, 0), (0, 2, 0), (1, 1, 0), (0, 0, 2)]
-NO_NAMES = [None, 3, "012", (), (0, 1), (0, 1, 2, 3), (0, 0, 1), (1, 2, 3), (-1, 0, 1), (True, 0, 2), (None, 1, 2)]
-NO_NUMBERS = [None, True, False, "1", (), (1,), [1]]
 
 WRONG = {
     "web": NO_WEBS,
@@ -65,6 +25,9 @@ WRONG = {
     "hands": NO_NAMES,
     "tasks": NO_NAMES,
     "names": NO_NAMES,
+    ("way", "other"): NO_PAIRS,
+    ("glued", "other"): NO_WEBS,
+    ("least_full", "number"): NO_NUMBERS,
 }
 
 # A call of each function, with all its arguments in their order.
@@ -118,54 +81,11 @@ CALLS = [
 LISTS = {"words", "all_trees", "all_rows", "trees_with", "full_lots"}
 
 
-def as_lists(arguments):
-    """The arguments with lists for tuples, but for thing."""
-    return {name: worth if name == "thing" else listed(worth) for name, worth in arguments.items()}
-
-
-class Calls(unittest.TestCase):
-    def test_lists_names_and_once_more(self):
-        for call, arguments in CALLS:
-            with self.subTest(call=call.__name__):
-                came = repr(call(*arguments.values()))
-                self.assertEqual(repr(call(**arguments)), came)
-                self.assertEqual(repr(call(**as_lists(arguments))), came)
-                self.assertEqual(repr(call(*arguments.values())), came)
-
-    def test_arguments_are_left_as_they_are(self):
-        for call, arguments in CALLS:
-            with self.subTest(call=call.__name__):
-                told = as_lists(arguments)
-                kept = copy.deepcopy(told)
-                call(**told)
-                self.assertEqual(repr(told), repr(kept))
-
-    def test_results_are_new_lists_or_hold_no_list(self):
-        for call, arguments in CALLS:
-            with self.subTest(call=call.__name__):
-                came = call(**as_lists(arguments))
-                self.assertEqual(isinstance(came, list), call.__name__ in LISTS)
-                if isinstance(came, list):
-                    came.append(None)
-                    self.assertNotEqual(call(**arguments), came)
-                    came.pop()
-                self.assertNotIn("[", repr(came)[1:])
+class Calls(CallChecks, unittest.TestCase):
+    calls, wrong, lists = CALLS, WRONG, LISTS
 
 
 class UnfitArguments(unittest.TestCase):
-    def test_each_argument(self):
-        for call, arguments in CALLS:
-            for name in arguments:
-                wrong = WRONG.get(name, [])
-                if name == "other":
-                    wrong = NO_WEBS if call is changed.glued else NO_PAIRS
-                if name == "number" and call is bars.least_full:
-                    wrong = NO_NUMBERS
-                for worth in wrong:
-                    with self.subTest(call=call.__name__, name=name, worth=worth):
-                        self.assertIsInstance(raised(lambda: call(**{**arguments, name: worth})), Unfit)
-                        self.assertIsInstance(raised(lambda: call(**{**as_lists(arguments), name: listed(worth)})), Unfit)
-
     def test_all_unfit_ones_are_ahead(self):
         for call, rest in (
             (webs.ties_at, (None, (9, 9))),
@@ -187,15 +107,6 @@ class UnfitArguments(unittest.TestCase):
         ):
             with self.subTest(call=call.__name__, rest=rest):
                 self.assertIsInstance(raised(call, *rest), Unfit)
-
-    def test_lists_without_an_end_are_unfit(self):
-        round_list = []
-        round_list.append(round_list)
-        for worth in (round_list, [round_list] * 3, [1, 1, round_list], [1, 1, [round_list]]):
-            self.assertIsInstance(raised(webs.sizes, worth), Unfit)
-            self.assertIsInstance(raised(webs.ties_at, HOUSE, worth), Unfit)
-            self.assertIsInstance(raised(trees.ends_of, HOUSE, worth), Unfit)
-            self.assertIsInstance(raised(bars.bar, HOUSE, 0, worth), Unfit)
 
     def test_things_are_asked_last(self):
         for thing in (None, "x", 3, (), [[]], (1, (None, True))):

@@ -95,6 +95,8 @@ class Hangs(unittest.TestCase):
         for many in (0, -1, True, None, "1", (1,), 1.0):
             self.assertIsInstance(raised(hangs, many, 1, ((0, 0),)), Unfit)
             self.assertIsInstance(raised(hangs, 1, many, ((0, 0),)), Unfit)
+            self.assertIsInstance(raised(hangs, many, 1, ()), Unfit)
+            self.assertIsInstance(raised(hangs, 1, many, ()), Unfit)
         for ties in (None, 0, "00", ((0, 2),), ((2, 0),), ((0, -1),), ((-1, 0),), ((0, 0, 0),), ((True, 0),), (0, 0), ({},)):
             self.assertIsInstance(raised(hangs, 2, 2, ties), Unfit)
 

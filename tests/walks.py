@@ -1,7 +1,8 @@
 """Plain walks over small WEBS, to hold the package against: each tells by its
 definition alone what the package finds in other ways."""
 
-from itertools import combinations, product
+from functools import lru_cache
+from itertools import combinations, permutations, product
 
 
 def listed(value):
@@ -79,6 +80,7 @@ def rank(web, side, lot):
     return len(neighbours(web, side, lot)) - len(pieces(web, side, lot))
 
 
+@lru_cache(maxsize=None)
 def trees(web):
     """All TREES, ascending."""
     many, number, ties = web
@@ -107,3 +109,125 @@ def bars(web, side, call):
         for lot in lots(web[side])
         if sum(call[place] for place in lot) >= len(neighbours(web, side, lot))
     ]
+
+
+def orders(web):
+    """Some ORDERS: up, down, by TASKS, and two mixed ones."""
+    ties = web[2]
+    mixed = [tuple(sorted(ties, key=lambda tie: ((tie[0] * by + tie[1] * 3) % 7, tie))) for by in (5, 2)]
+    return [ties, ties[::-1], tuple(sorted(ties, key=lambda tie: tie[::-1]))] + mixed
+
+
+def part(tree, tie, side):
+    """The PLACES that hang together with the end of tie once it is out."""
+    seen = {(side, tie[side])}
+    grown = True
+    while grown:
+        grown = False
+        for own in tree:
+            ends = {(0, own[0]), (1, own[1])}
+            if own != tie and ends & seen and not ends <= seen:
+                seen |= ends
+                grown = True
+    return seen
+
+
+@lru_cache(maxsize=None)
+def share(tree, tie, side):
+    return len([place for place in part(tree, tie, side) if place[0] == side])
+
+
+def shares(tree, order, side):
+    return tuple(share(tree, tie, side) if tie in tree else 0 for tie in order)
+
+
+def price(web, order, tie):
+    return (web[0] + web[1] + 1) ** (len(order) - 1 - order.index(tie))
+
+
+def cost(web, tree, order, side):
+    return sum(price(web, order, tie) * share(tree, tie, side) for tie in tree)
+
+
+def potentials(web, tree, order):
+    """Told from the first HAND on, TIE by TIE."""
+    told = {(0, 0): 0}
+    while len(told) < web[0] + web[1]:
+        for tie in tree:
+            hand, task = (0, tie[0]), (1, tie[1])
+            if hand in told:
+                told[task] = price(web, order, tie) - told[hand]
+            elif task in told:
+                told[hand] = price(web, order, tie) - told[task]
+    return tuple(tuple(told[(side, number)] for number in range(web[side])) for side in (0, 1))
+
+
+def gap(web, tree, order, tie):
+    hands, tasks = potentials(web, tree, order)
+    return price(web, order, tie) - hands[tie[0]] - tasks[tie[1]]
+
+
+def under(web, tree, order):
+    hands, tasks = potentials(web, tree, order)
+    return tuple(tie for tie in web[2] if hands[tie[0]] + tasks[tie[1]] > price(web, order, tie))
+
+
+def tights(web, order, side):
+    """For each ROW of this SIDE the TREE of all with it whose SHARES are least."""
+    best = {}
+    for tree in trees(web):
+        own = row(web, tree, side)
+        if own not in best or shares(tree, order, side) < shares(best[own], order, side):
+            best[own] = tree
+    return best
+
+
+def way(tree, tie):
+    """The TIES of tree that lead from the HAND of tie to its TASK."""
+    waiting = [((0, tie[0]), ())]
+    while waiting:
+        place, gone = waiting.pop()
+        if place == (1, tie[1]):
+            return gone
+        for own in tree:
+            if own not in gone and place in ((0, own[0]), (1, own[1])):
+                beyond = (1, own[1]) if place[0] == 0 else (0, own[0])
+                waiting.append((beyond, gone + (own,)))
+
+
+def falls(web, order, side, tree):
+    """All FALLS, ascending."""
+    found = []
+    for put in under(web, tree, order):
+        lose = way(tree, put)[::2]
+        found.append((put, min(lose, key=lambda tie: share(tree, tie, side))))
+    return found
+
+
+def swapped(tree, put, out):
+    return tuple(sorted(set(tree) - {out} | {put}))
+
+
+def rings(many, number):
+    """All tuples (hand, task, ..) of two or more of so many HANDS and TASKS."""
+    for size in range(2, min(many, number) + 1):
+        for hands in permutations(range(many), size):
+            for tasks in permutations(range(number), size):
+                yield tuple(own for pair in zip(hands, tasks) for own in pair)
+
+
+def ring_ties(ring):
+    """The TIES gone from HAND to TASK, and those gone from TASK to HAND."""
+    size = len(ring)
+    there = {(ring[at], ring[at + 1]) for at in range(0, size, 2)}
+    return there, {(ring[(at + 1) % size], ring[at]) for at in range(1, size, 2)}
+
+
+def crossings(web, tree, other):
+    """All CROSSINGS of tree and other."""
+    found = []
+    for ring in rings(web[0], web[1]):
+        there, back = ring_ties(ring)
+        if there <= set(tree) and back <= set(other):
+            found.append(ring)
+    return found

@@ -1,0 +1,106 @@
+"""TIGHT TREES: the one that has a ROW, and those beside one."""
+
+from eachhandtied.costs import gaps_of, prices_of
+from eachhandtied.joins import near_of
+from eachhandtied.owners import come_from, given
+from eachhandtied.spans import beyond_in, first_tree, row_in, swapped
+
+
+def left_to(back, owner, goal):
+    """owner, but that goal is the one that is left over."""
+    start = owner.index(None)
+    come = come_from(back, owner, start)
+    told = list(owner)
+    told[goal] = None
+    at = goal
+    # Each place on the way has the one by which it was come to for the one
+    # that it gives on.
+    while at != start:
+        place = owner[at]
+        at = come[place]
+        told[at] = place
+    return told
+
+
+def closed(back, owner, come):
+    """back without what goes from places come to to what others own."""
+    told = []
+    for places, holder in zip(back, owner):
+        if holder is None or holder in come:
+            told.append(places)
+        else:
+            told.append([place for place in places if place not in come])
+    return told
+
+
+def tight_with(web, order, side, row):
+    """The TIGHT TREE with this ROW: that of the least SHARES, TIE by TIE."""
+    back = near_of(web, 1 - side)
+    owner = given(near_of(web, side), web[1 - side], row)
+    for tie in order:
+        place, other = tie[side], tie[1 - side]
+        places = back[other]
+        if place not in places:
+            continue
+        owner = left_to(back, owner, other)
+        back[other] = [own for own in places if own != place]
+        come = come_from(back, owner, other)
+        if len(come) < web[side]:
+            # No TREE is without tie. Those not come to have at the least its
+            # SHARE; just that if none but them goes to what they own.
+            back[other] = places
+            back = closed(back, owner, come)
+    left = [(place, other) for other, places in enumerate(back) for place in places]
+    return tuple(sorted([(own[side], own[1 - side]) for own in left]))
+
+
+def hand_parts(web, tree):
+    """For each TIE of tree its PART by the HANDS as a number, with a bit for
+    each HAND, behind these one for each TASK."""
+    many, number, _ = web
+    bits = {(0, hand): 1 << hand for hand in range(many)}
+    for task in range(number):
+        bits[(1, task)] = 1 << (many + task)
+    whole = (1 << (many + number)) - 1
+    beyond = beyond_in(tree, bits)
+    found = {}
+    for tie in tree:
+        end, part = beyond[tie]
+        found[tie] = part if end[0] == 0 else whole - part
+    return found
+
+
+def puts_beside(web, tree, by_tie):
+    """For each TIE of tree, a TIGHT one, over which another one is beside it
+    the TIE that this one has for it, by_tie telling the prices."""
+    gaps = gaps_of(web, tree, by_tie)
+    parts = hand_parts(web, tree)
+    # The one of the least gap can be put without any coming under the TREE.
+    others = sorted([(gaps[tie], tie) for tie in web[2] if gaps[tie] > 0])
+    found = {}
+    for tie in tree:
+        part = parts[tie]
+        for _, put in others:
+            if not part >> put[0] & 1 and part >> (web[0] + put[1]) & 1:
+                found[tie] = put
+                break
+    return found
+
+
+def tights_up_to(web, order, most):
+    """The list, ascending, of all TIGHT TREES; None if they are more than most."""
+    by_tie = prices_of(web, order)
+    first = tight_with(web, order, 0, row_in(web, first_tree(web), 0))
+    found = {first: True}
+    waiting = [first]
+    while waiting:
+        tree = waiting.pop()
+        puts = puts_beside(web, tree, by_tie)
+        for out in puts:
+            beside = swapped(tree, puts[out], out)
+            if beside not in found:
+                found[beside] = True
+                waiting.append(beside)
+        if len(found) > most:
+            return None
+    return sorted(list(found))
