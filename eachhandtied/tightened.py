@@ -87,8 +87,8 @@ def puts_beside(web, tree, by_tie):
     return found
 
 
-def tights_up_to(web, order, most):
-    """The list, ascending, of all TIGHT TREES; None if they are more than most."""
+def every_tight(web, order):
+    """The list, ascending, of all TIGHT TREES."""
     by_tie = prices_of(web, order)
     first = tight_with(web, order, 0, row_in(web, first_tree(web), 0))
     found = {first: True}
@@ -101,6 +101,4 @@ def tights_up_to(web, order, most):
             if beside not in found:
                 found[beside] = True
                 waiting.append(beside)
-        if len(found) > most:
-            return None
     return sorted(list(found))

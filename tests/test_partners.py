@@ -162,6 +162,24 @@ class Bounds(unittest.TestCase):
         ):
             self.assertIs(type(raised(call, *rest)), TooMany)
 
+    def test_too_many_rows_are_found_without_a_tree(self):
+        # Long to answer, once: 2,002 ROWS, whose TIGHT TREES were sought first.
+        for web in (whole(6, 10), whole(10, 6), BROAD):
+            order, tie = web[2], (0, 0)
+            calls = [
+                (all_tight, (order,)),
+                (partners, (order,)),
+                (is_matched, (order, ())),
+                (tie_tight, (order, tie)),
+                (led_unlike, (order, order[::-1])),
+                (order_leads_alike, (order, order[::-1])),
+                (alike_trees, (order, order[::-1])),
+            ]
+            with mock.patch.object(few, "every_tight", side_effect=AssertionError):
+                for call, rest in calls:
+                    self.assertIs(type(raised(call, web, *rest)), TooMany)
+                self.assertIs(type(raised(all_tight, HOUSE, HOUSE[2])), AssertionError)
+
     def test_just_so_many_are_told(self):
         # HOUSE has two ROWS of each SIDE.
         calls = [

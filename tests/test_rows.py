@@ -2,7 +2,9 @@
 
 import unittest
 from itertools import product
+from unittest import mock
 
+from eachhandtied import few
 from eachhandtied.changed import glued
 from eachhandtied.errors import TooMany
 from eachhandtied.rows import all_rows, calls_together, how_many_calls, is_call, is_row, row_of, trees_with
@@ -16,6 +18,10 @@ HOUSE = (3, 3, ((0, 0), (0, 1), (1, 0), (1, 1), (2, 1), (2, 2)))
 
 def whole(many, number):
     return many, number, tuple((hand, task) for hand in range(many) for task in range(number))
+
+
+def ring(many):
+    return many, many, tuple(sorted((k, own % many) for k in range(many) for own in (k, k + 1)))
 
 
 class Calls(unittest.TestCase):
@@ -60,6 +66,34 @@ class Rows(unittest.TestCase):
                 for row in by_row:
                     self.assertEqual(trees_with(web, side, row), by_row[row])
                     self.assertIs(is_row(web, side, list(row)), False)
+
+    def test_both_ways_to_them(self):
+        # With no LOTS ranked ROWS are found from ROW to ROW, as on great SIDES.
+        webs = walks.some_webs() + walks.greater_webs() + [whole(7, 5), whole(12, 3), ring(12)]
+        for side in (0, 1):
+            told = [all_rows(web, side) for web in webs]
+            with mock.patch.object(few, "MOST_RANKED", 0):
+                self.assertEqual([all_rows(web, side) for web in webs], told)
+        great = whole(6, 10)
+        with mock.patch.object(few, "MOST_RANKED", 0):
+            self.assertIsInstance(raised(all_rows, great, 0), TooMany)
+            self.assertIsInstance(raised(all_rows, great, 1), TooMany)
+
+    def test_beyond_the_bounds(self):
+        web = glued(ring(12), (0, 3), ring(12), (0, 5))
+        for side in (0, 1):
+            told = all_rows(web, side)
+            self.assertEqual((len(told), told), (144, sorted(set(told))))
+            self.assertTrue(all(is_row(web, side, row) for row in told))
+
+    def test_just_so_many_are_told(self):
+        # The ring of five has five ROWS of each SIDE.
+        for most_ranked in (0, 12):
+            with mock.patch.object(few, "MOST_RANKED", most_ranked):
+                with mock.patch.object(few, "MOST_TOLD", 5):
+                    self.assertEqual(len(all_rows(ring(5), 1)), 5)
+                with mock.patch.object(few, "MOST_TOLD", 4):
+                    self.assertIsInstance(raised(all_rows, ring(5), 1), TooMany)
 
     def test_guarantees(self):
         for web in walks.some_webs() + walks.greater_webs():
