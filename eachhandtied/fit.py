@@ -119,6 +119,20 @@ def fit_count(number):
     return number
 
 
+def fit_natural(number):
+    """number, if it is one from 0."""
+    if not is_number(number) or number < 0:
+        raise Unfit()
+    return number
+
+
+def fit_between(number, least, most):
+    """number, if it is one from least to most."""
+    if not is_number(number) or not least <= number <= most:
+        raise Unfit()
+    return number
+
+
 def fit_pair(pair):
     """pair, if it is one of numbers."""
     told = tupled(pair, 1)
@@ -186,6 +200,31 @@ def fit_names(many, names):
     """names, if they are all numbers of a SIDE of so many, each once."""
     told = tupled(names, 1)
     if not are_numbers(told) or sorted(told) != list(range(many)):
+        raise Unfit()
+    return told
+
+
+def fit_naturals(numbers):
+    """numbers, if they are a tuple of numbers from 0."""
+    told = tupled(numbers, 1)
+    if not are_numbers(told) or not all([own >= 0 for own in told]):
+        raise Unfit()
+    return told
+
+
+def fit_limits(web, side, limits):
+    """limits, if they are a tuple with a number from 0 for each of this SIDE."""
+    told = fit_naturals(limits)
+    if len(told) != web[side]:
+        raise Unfit()
+    return told
+
+
+def fit_beginning(web, side, numbers):
+    """numbers, if they are a tuple of numbers from 0, no more than this SIDE has
+    places."""
+    told = fit_naturals(numbers)
+    if len(told) > web[side]:
         raise Unfit()
     return told
 

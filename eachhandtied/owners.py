@@ -99,6 +99,22 @@ def owners_with(near, owner, place):
     return fuller
 
 
+def row_held(near, owner):
+    """The ROW of which these are the owners."""
+    return tuple([owner.count(place) for place in range(len(near))])
+
+
+def handed_to(near, owner, place, givers):
+    """The owners of a ROW when one of givers hands one on to place, no giver
+    itself; None if none of them can."""
+    held = owners_with(near, owner, place)
+    for less in reached(near, held, place):
+        if less in givers:
+            held[held.index(less)] = None
+            return held
+    return None
+
+
 def least_full_with(web, side, row, place):
     """The least LOT with place that is full for row: those that can give one
     of theirs to place are all of it but place, maybe, itself."""

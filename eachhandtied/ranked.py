@@ -10,7 +10,8 @@ MOST_RANKED = 12
 
 def bits_of(mask):
     """How many bits of mask are 1."""
-    return f"{mask:b}".count("1")
+    figures = f"{mask:b}"
+    return figures.count("1")
 
 
 def joined(pieces, mask):
@@ -30,7 +31,7 @@ def ranks_of(near):
     told = [[]]
     for others in reversed(near):
         mask = sum([1 << other for other in others])
-        told.extend([joined(pieces, mask) for pieces in list(told)])
+        told = told + [joined(pieces, mask) for pieces in told]
     return [sum([bits_of(piece) - 1 for piece in pieces]) for pieces in told]
 
 

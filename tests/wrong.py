@@ -203,6 +203,60 @@ NO_HANDINGS = [
 ]
 NO_PLANS = [None, 1, "plan", (0, 1), (((0, 1),),)] + [((0, 1), own) for own in NO_HANDINGS]
 
+NO_NATURALS = NO_NUMBERS + [-1, -(10**6)]
+NO_LIMITS = [
+    None,
+    0,
+    "000",
+    (),
+    (0, 0),
+    (0, 0, 0, 0),
+    (-1, 0, 0),
+    (0, 0, -1),
+    (True, 0, 0),
+    (0, False, 0),
+    (None, 0, 0),
+    ("0", 0, 0),
+    ((0,), 0, 0),
+    ((0, 0, 0),),
+]
+NO_BEGINNINGS = [None, 0, "0", (-1,), (0, -1), (True,), (0, False), (None,), ("0",), ((0,),), (0, 0, 0, 0), (0,) * 13]
+NO_SHEETS = [
+    None,
+    0,
+    "web 1 1",
+    (),
+    HOUSE,
+    (HOUSE,),
+    (HOUSE, ()),
+    (HOUSE, (), (), ()),
+    (HOUSE, None, ()),
+    (HOUSE, (), None),
+    (HOUSE, "", ()),
+    (HOUSE, (), ""),
+    (HOUSE, (), 0),
+    (HOUSE, TREE, ()),
+    (HOUSE, (TREE[:4],), ()),
+    (HOUSE, (TREE, TREE[::-1]), ()),
+    (HOUSE, (None,), ()),
+    (HOUSE, ((),), ()),
+    (HOUSE, (), (0, (1, 0, 1))),
+    (HOUSE, (), ((0,),)),
+    (HOUSE, (), ((0, (1, 0, 1), ()),)),
+    (HOUSE, (), ((2, (1, 0, 1)),)),
+    (HOUSE, (), ((-1, (1, 0, 1)),)),
+    (HOUSE, (), ((False, (1, 0, 1)),)),
+    (HOUSE, (), ((None, (1, 0, 1)),)),
+    (HOUSE, (), ((0, (1, 0, 1)), (1, (1, 1, 1)))),
+    (HOUSE, (), ((0, (True, 0, 1)),)),
+    (HOUSE, (), ((0, (1, 1)),)),
+    (HOUSE, (), ((0, None),)),
+    (HOUSE, (), (None,)),
+    (HOUSE[::-1], (), ()),
+    ((1, 1, ()), (), ()),
+    (None, (), ()),
+]
+
 
 def raised(call, *rest):
     """The error that a call raises, None if it raises none."""
