@@ -15,6 +15,23 @@ def row_by_turn(near, places):
     return tuple(row)
 
 
+def worth_of(row, worths):
+    """What the numbers of row are worth."""
+    return sum([number * own for number, own in zip(row, worths)])
+
+
+def levels_of(worths):
+    """The LEVELS of worths."""
+    steps = sorted(set(worths))
+    return tuple([tuple([place for place, own in enumerate(worths) if own >= step]) for step in steps[::-1]])
+
+
+def best_row_by(near, worths):
+    """A dearest ROW: the places of the greatest worth have the most."""
+    falling = sorted([(-own, place) for place, own in enumerate(worths)])
+    return row_by_turn(near, [own[1] for own in falling])
+
+
 def least_row(near):
     """The least ROW: the last places have the most."""
     return row_by_turn(near, list(range(len(near)))[::-1])

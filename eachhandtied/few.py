@@ -1,11 +1,12 @@
 """Lists that are told only if they are not too long."""
 
+from eachhandtied.chains import best_row_by, levels_of
 from eachhandtied.errors import TooMany
 from eachhandtied.joins import near_of
 from eachhandtied.owners import rows_up_to
 from eachhandtied.plain import MOST_TOLD
-from eachhandtied.ranked import MOST_RANKED, ranks_of, rows_by
-from eachhandtied.spans import every_tree, first_tree, how_many_trees, row_in
+from eachhandtied.ranked import MOST_RANKED, faced, ranks_of, rows_by
+from eachhandtied.spans import every_tree, how_many_trees
 from eachhandtied.tightened import every_tight
 
 
@@ -17,23 +18,30 @@ def few_trees(web):
     return every_tree(web)
 
 
-def rows_told(web, side):
-    """The list, ascending, of all ROWS of this SIDE; None if it is too long."""
+def rows_told(web, side, worths):
+    """The list, ascending, of all dearest ROWS by worths; None if it is too long."""
+    near = near_of(web, side)
     if web[side] <= MOST_RANKED:
-        return rows_by(ranks_of(near_of(web, side)), MOST_TOLD)
-    return rows_up_to(web, side, row_in(web, first_tree(web), side), MOST_TOLD)
+        return rows_by(faced(ranks_of(near), levels_of(worths)), MOST_TOLD)
+    return rows_up_to(web, side, best_row_by(near, worths), worths, MOST_TOLD)
+
+
+def few_best(web, side, worths):
+    """The list, ascending, of all dearest ROWS by worths; TooMany likewise."""
+    found = rows_told(web, side, worths)
+    if found is None:
+        raise TooMany()
+    return found
 
 
 def few_rows(web, side):
     """The list, ascending, of all ROWS of this SIDE; TooMany likewise."""
-    found = None
     # Both SIDES have as many ROWS: whether they are too many is found sooner on
     # that with fewer places.
-    for own in [side] if web[side] <= web[1 - side] else [1 - side, side]:
-        found = rows_told(web, own)
-        if found is None:
-            raise TooMany()
-    return found
+    if web[1 - side] < web[side]:
+        how_few_rows(web)
+    # By one worth for all places all ROWS are dearest.
+    return few_best(web, side, (0,) * web[side])
 
 
 def how_few_rows(web):

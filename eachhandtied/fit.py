@@ -100,6 +100,11 @@ def good_shares(web, side, thing):
     return all([same(own[1], shares[own[0]]) for own in thing])
 
 
+def good_worths(web, side, thing):
+    """Whether thing are WORTHS of this SIDE."""
+    return are_numbers(thing) and len(thing) == web[side]
+
+
 def good_handing(web, side, thing):
     """Whether thing is a pair of unlike numbers of this SIDE."""
     return is_pair(thing) and thing[0] != thing[1] and all([0 <= own < web[side] for own in thing])
@@ -265,6 +270,14 @@ def fit_fall(web, fall):
     """fall, if it is a pair of TIES of web."""
     told = tupled(fall, 2)
     if not isinstance(told, tuple) or len(told) != 2 or not all([good_tie(web, own) for own in told]):
+        raise Unfit()
+    return told
+
+
+def fit_worths(web, side, worths):
+    """worths, if they are WORTHS of this SIDE."""
+    told = tupled(worths, 1)
+    if not good_worths(web, side, told):
         raise Unfit()
     return told
 

@@ -70,6 +70,22 @@ def come_from(back, owner, start):
     return come
 
 
+def left_to(back, owner, goal):
+    """owner, but that goal is the one that is left over."""
+    start = owner.index(None)
+    come = come_from(back, owner, start)
+    told = list(owner)
+    told[goal] = None
+    at = goal
+    # Each place on the way has the one by which it was come to for the one
+    # that it gives on.
+    while at != start:
+        place = owner[at]
+        at = come[place]
+        told[at] = place
+    return told
+
+
 def bar_of(web, side, call):
     """A BAR of call; () if there is none, call being a ROW."""
     owner = given(near_of(web, side), web[1 - side], call)
@@ -80,16 +96,19 @@ def bar_of(web, side, call):
     return tuple([place for place in range(web[side]) if place not in come])
 
 
+def tree_held(side, owner, come):
+    """The TREE in which each place of this SIDE has a TIE to all that it owns,
+    and one to that by which it is come to."""
+    ends = [(place, other) for other, place in enumerate(owner) if place is not None]
+    ends.extend([(place, come[place]) for place in come])
+    return tuple(sorted([(own[side], own[1 - side]) for own in ends]))
+
+
 def tree_given(web, side, call):
     """A TREE whose ROW of this SIDE call is; () if there is none."""
     owner = given(near_of(web, side), web[1 - side], call)
     come = come_from(near_of(web, 1 - side), owner, owner.index(None))
-    if len(come) < web[side]:
-        return ()
-    # Each place has a TIE to all that it owns, and one by which it is come to.
-    ends = [(place, other) for other, place in enumerate(owner) if place is not None]
-    ends.extend([(place, come[place]) for place in come])
-    return tuple(sorted([(own[side], own[1 - side]) for own in ends]))
+    return tree_held(side, owner, come) if len(come) == web[side] else ()
 
 
 def owners_with(near, owner, place):
@@ -133,14 +152,14 @@ def handing_toward(web, side, row, goal):
     return [place for place in lot if row[place] > goal[place]][0], more
 
 
-def rows_around(near, row, owner):
+def rows_around(near, row, owner, worths):
     """The list of the pairs of a ROW that is row but for one more at a place
-    and one less at another one, and of its owners."""
+    and one less at another one of the same worth, and of its owners."""
     found = []
     for place in range(len(row)):
         fuller = owners_with(near, owner, place)
         for less in reached(near, fuller, place):
-            if less != place:
+            if less != place and worths[less] == worths[place]:
                 held = list(fuller)
                 held[held.index(less)] = None
                 more = list(row)
@@ -150,15 +169,15 @@ def rows_around(near, row, owner):
     return found
 
 
-def rows_up_to(web, side, row, most):
-    """The list, ascending, of all ROWS, row being one of them; None if they
-    are more than most."""
+def rows_up_to(web, side, row, worths, most):
+    """The list, ascending, of all dearest ROWS by worths, row being one of
+    them; None if they are more than most."""
     near = near_of(web, side)
     found = {row: True}
     waiting = [(row, given(near, web[1 - side], row))]
     while waiting:
         own, owner = waiting.pop()
-        for more, held in rows_around(near, own, owner):
+        for more, held in rows_around(near, own, owner, worths):
             if more not in found:
                 found[more] = True
                 waiting.append((more, held))

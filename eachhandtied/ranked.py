@@ -35,6 +35,20 @@ def ranks_of(near):
     return [sum([bits_of(piece) - 1 for piece in pieces]) for pieces in told]
 
 
+def faced(ranks, lots):
+    """The RANKS by which the ROWS are those that have the RANK on each of lots,
+    a CHAIN."""
+    many = len(lots[-1])
+    told = [0] * len(ranks)
+    ahead = 0
+    # What a LOT has of one step of the CHAIN has what the steps ahead leave it.
+    for lot in lots:
+        mask = sum([1 << (many - 1 - place) for place in lot])
+        told = [had + ranks[ahead | own & mask] - ranks[ahead] for own, had in enumerate(told)]
+        ahead = mask
+    return told
+
+
 def rows_left(left, most, known):
     """The list, ascending, of what the last places can have to which the ones
     ahead leave these RANKS; cut off behind most. known keeps what was told."""

@@ -2,24 +2,8 @@
 
 from eachhandtied.costs import gaps_of, prices_of
 from eachhandtied.joins import near_of
-from eachhandtied.owners import come_from, given
+from eachhandtied.owners import come_from, given, left_to
 from eachhandtied.spans import beyond_in, first_tree, row_in, swapped
-
-
-def left_to(back, owner, goal):
-    """owner, but that goal is the one that is left over."""
-    start = owner.index(None)
-    come = come_from(back, owner, start)
-    told = list(owner)
-    told[goal] = None
-    at = goal
-    # Each place on the way has the one by which it was come to for the one
-    # that it gives on.
-    while at != start:
-        place = owner[at]
-        at = come[place]
-        told[at] = place
-    return told
 
 
 def closed(back, owner, come):

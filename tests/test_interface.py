@@ -184,6 +184,34 @@ FUNCTIONS = {
         "picture": "web tree",
         "read_picture": "text",
     },
+    "worths": {
+        "worth": "web side row worths",
+        "best_worth": "web side worths",
+        "best_row": "web side worths",
+        "is_best_row": "web side worths thing",
+        "all_best": "web side worths",
+        "levels": "web side worths",
+        "better": "web side row worths",
+        "is_better": "web side row worths thing",
+    },
+    "lost": {
+        "without": "web tie",
+        "lost_rows": "web side tie",
+        "is_lost": "web side row tie",
+        "must_ties": "web side row",
+        "tree_with": "web side row tie",
+        "is_tree_with": "web side row tie thing",
+        "least_share": "web side row tie",
+    },
+    "judge": {
+        "is_demand": "thing",
+        "is_so": "demand",
+        "paper_against": "demand",
+        "is_paper_against": "demand thing",
+        "reason_for": "demand",
+        "is_reason_for": "demand thing",
+        "first_fallen": "demands",
+    },
 }
 
 
@@ -203,6 +231,29 @@ class Interface(unittest.TestCase):
                 with self.subTest(file=file, name=name):
                     self.assertTrue(inspect.isfunction(getattr(module, name)))
                     self.assertEqual(getattr(module, name).__module__, module.__name__)
+
+    def test_classes(self):
+        listed = [("desk", "Desk", "web order"), ("errors", "NoPlace", "place"), ("errors", "NoTie", "tie")]
+        listed += [("errors", "NothingDone", ""), ("errors", "BadText", "line"), ("errors", "Broken", "place")]
+        listed += [("errors", name, "") for name in ("CanNot", "TooMany", "Unfit")]
+        for file, name, arguments in listed:
+            with self.subTest(file=file, name=name):
+                module = importlib.import_module("eachhandtied." + file)
+                told = getattr(module, name)
+                self.assertTrue(inspect.isclass(told))
+                self.assertEqual(told.__module__, module.__name__)
+                if arguments:
+                    self.assertEqual(list(inspect.signature(told).parameters), arguments.split())
+                else:
+                    self.assertEqual(vars(told()), {})
+
+    def test_no_argument_has_a_value_of_its_own(self):
+        for file, functions in FUNCTIONS.items():
+            module = importlib.import_module("eachhandtied." + file)
+            for name in functions:
+                for own in inspect.signature(getattr(module, name)).parameters.values():
+                    self.assertIs(own.default, inspect.Parameter.empty)
+                    self.assertIs(own.kind, inspect.Parameter.POSITIONAL_OR_KEYWORD)
 
 
 if __name__ == "__main__":

@@ -257,6 +257,34 @@ NO_SHEETS = [
     (None, (), ()),
 ]
 
+NO_WORTHS = [None, 0, "123", (), (1, 2), (1, 2, 3, 4), (True, 2, 3), (1, False, 3), (None, 2, 3), ("1", 2, 3), ((1, 2, 3),)]
+
+
+def no_demands():
+    """What is no DEMAND: of each word, with each wrong value in each place."""
+    up, row, other = HOUSE[2], (1, 0, 1), (1, 1, 0)
+    sides = [own for own in NO_SIDES if own != []]
+    kinds = [
+        (("row", HOUSE, 0, row), (NO_WEBS, sides, NO_CALLS)),
+        (("tight", HOUSE, up, TREE), (NO_WEBS, NO_ORDERS, NO_TREES)),
+        (("partner", HOUSE, up, row, other), (NO_WEBS, NO_ORDERS, NO_ROWS, NO_CALLS + [(1, 0, 1), (0, 1, 1)])),
+        (("far", HOUSE, 0, row, 0), (NO_WEBS, sides, NO_CALLS, NO_NATURALS)),
+        (("worth", HOUSE, 0, (1, 2, 3), 0), (NO_WEBS, sides, NO_WORTHS, NO_NUMBERS)),
+    ]
+    found = [None, 0, "row", (), ("row",), (0, HOUSE, 0, row), (None, HOUSE, 0, row), (("row",), HOUSE, 0, row)]
+    found += [("rows", HOUSE, 0, row), ("Row", HOUSE, 0, row), ("", HOUSE, 0, row), ("row ", HOUSE, 0, row)]
+    for demand, wrong in kinds:
+        found += [demand[:-1], demand + (0,), demand[1:], (demand,), demand[:1] + demand[:0:-1], demand[:2]]
+        for at, values in enumerate(wrong):
+            found += [demand[: at + 1] + (own,) + demand[at + 2 :] for own in values]
+        # The numbers of a CALL may be WORTHS.
+        others = [own[0] for own, _ in kinds if own[0] != demand[0] and (own[0], demand[0]) != ("worth", "far")]
+        found += [(word,) + demand[1:] for word in others]
+    return found
+
+
+NO_DEMANDS = no_demands()
+
 
 def raised(call, *rest):
     """The error that a call raises, None if it raises none."""
