@@ -13,9 +13,9 @@ def prices_of(web, order):
     return found
 
 
-def potentials_of(web, tree, by_tie):
-    """The POTENTIALS of tree, by_tie telling the prices."""
-    toward = steps_toward(tree, (0, 0))
+def potentials_along(web, toward, by_tie):
+    """The POTENTIALS of a TREE whose steps toward the first HAND these are,
+    by_tie telling the prices."""
     told = {}
     # A PLACE stands in toward behind the one to which it goes.
     for place in toward:
@@ -25,10 +25,20 @@ def potentials_of(web, tree, by_tie):
     return hands, tuple([told[(1, task)] for task in range(web[1])])
 
 
-def gaps_of(web, tree, by_tie):
+def potentials_of(web, tree, by_tie):
+    """The POTENTIALS of tree."""
+    return potentials_along(web, steps_toward(tree, (0, 0)), by_tie)
+
+
+def gaps_along(web, toward, by_tie):
     """For each TIE of web its price less both POTENTIALS at its ends."""
-    hands, tasks = potentials_of(web, tree, by_tie)
+    hands, tasks = potentials_along(web, toward, by_tie)
     return {tie: by_tie[tie] - hands[tie[0]] - tasks[tie[1]] for tie in web[2]}
+
+
+def gaps_of(web, tree, by_tie):
+    """The same by the TREE."""
+    return gaps_along(web, steps_toward(tree, (0, 0)), by_tie)
 
 
 def under_of(web, tree, by_tie):

@@ -118,10 +118,9 @@ def swapped(tree, put, out):
     return tuple(sorted([own for own in tree if own != out] + [put]))
 
 
-def beyond_in(tree, numbers):
-    """For each TIE of tree the pair of its end away from HAND 0 and what the
-    numbers of all PLACES that hang together with this end come to."""
-    toward = steps_toward(tree, (0, 0))
+def beyond_along(toward, numbers):
+    """For each TIE toward a goal the pair of its end away from the goal and
+    what the numbers of all PLACES that hang together with this end come to."""
     come = {place: numbers[place] for place in toward}
     found = {}
     # A PLACE stands in toward behind the one to which it goes.
@@ -137,7 +136,7 @@ def beyond_in(tree, numbers):
 def shares_in(web, tree, side):
     """The SHARE of each TIE of tree by this SIDE."""
     numbers = {(own, number): 1 if own == side else 0 for own in (0, 1) for number in range(web[own])}
-    beyond = beyond_in(tree, numbers)
+    beyond = beyond_along(steps_toward(tree, (0, 0)), numbers)
     found = {}
     for tie in tree:
         end, many = beyond[tie]

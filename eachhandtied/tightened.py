@@ -1,9 +1,9 @@
 """TIGHT TREES: the one that has a ROW, and those beside one."""
 
-from eachhandtied.costs import gaps_of, prices_of
+from eachhandtied.costs import gaps_along, prices_of
 from eachhandtied.joins import near_of
 from eachhandtied.owners import come_from, given, left_to
-from eachhandtied.spans import beyond_in, first_tree, row_in, swapped
+from eachhandtied.spans import beyond_along, first_tree, row_in, steps_toward, swapped
 
 
 def closed(back, owner, come):
@@ -38,36 +38,32 @@ def tight_with(web, order, side, row):
     return tuple(sorted([(own[side], own[1 - side]) for own in left]))
 
 
-def hand_parts(web, tree):
-    """For each TIE of tree its PART by the HANDS as a number, with a bit for
-    each HAND, behind these one for each TASK."""
-    many, number, _ = web
-    bits = {(0, hand): 1 << hand for hand in range(many)}
-    for task in range(number):
-        bits[(1, task)] = 1 << (many + task)
-    whole = (1 << (many + number)) - 1
-    beyond = beyond_in(tree, bits)
-    found = {}
-    for tie in tree:
-        end, part = beyond[tie]
-        found[tie] = part if end[0] == 0 else whole - part
-    return found
+def bits_at(web, ties):
+    """For each PLACE a number with a bit for each of ties, in their order, that
+    it has; those of the TASKS stand above all those of the HANDS."""
+    bits = {(side, number): 0 for side in (0, 1) for number in range(web[side])}
+    for at, tie in enumerate(ties):
+        bits[(0, tie[0])] |= 1 << at
+        bits[(1, tie[1])] |= 1 << (at + len(ties))
+    return bits
 
 
 def puts_beside(web, tree, by_tie):
     """For each TIE of tree, a TIGHT one, over which another one is beside it
     the TIE that this one has for it, by_tie telling the prices."""
-    gaps = gaps_of(web, tree, by_tie)
-    parts = hand_parts(web, tree)
+    toward = steps_toward(tree, (0, 0))
+    gaps = gaps_along(web, toward, by_tie)
     # The one of the least gap can be put without any coming under the TREE.
-    others = sorted([(gaps[tie], tie) for tie in web[2] if gaps[tie] > 0])
+    puts = [own[1] for own in sorted([(gaps[tie], tie) for tie in web[2] if gaps[tie] > 0])]
+    beyond = beyond_along(toward, bits_at(web, puts))
     found = {}
     for tie in tree:
-        part = parts[tie]
-        for _, put in others:
-            if not part >> put[0] & 1 and part >> (web[0] + put[1]) & 1:
-                found[tie] = put
-                break
+        end, bits = beyond[tie]
+        hands, tasks = bits & ((1 << len(puts)) - 1), bits >> len(puts)
+        # Those from the PART of the TASK of tie to that of its HAND.
+        fit = tasks & ~hands if end[0] == 0 else hands & ~tasks
+        if fit:
+            found[tie] = puts[(fit & -fit).bit_length() - 1]
     return found
 
 
