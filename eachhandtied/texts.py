@@ -2,7 +2,7 @@
 
 from eachhandtied.errors import BadText, CanNot, Unfit
 from eachhandtied.fit import fit_tree, fit_web, good_call, good_side, good_tree, good_web
-from eachhandtied.plain import rises, tupled
+from eachhandtied.plain import tupled
 from eachhandtied.signs import number_of, word_of, words
 
 IN_TREE = "#"
@@ -97,8 +97,9 @@ def read_ties(many, number, rows):
 def read_tree(web, row):
     """The TREE of web that row tells."""
     numbers = numbers_behind(row)
-    if not rises(numbers) or not all([0 <= own < len(web[2]) for own in numbers]):
+    if not all([0 <= own < len(web[2]) for own in numbers]):
         raise BadText(row[0])
+    # As its TIES have to, their numbers rise.
     tree = tuple([web[2][own] for own in numbers])
     if not good_tree(web, tree):
         raise BadText(row[0])
@@ -108,7 +109,7 @@ def read_tree(web, row):
 def read_call(web, row):
     """The pair of a SIDE and a CALL of it that row tells."""
     numbers = numbers_behind(row)
-    told = (numbers[:1] + (numbers[1:],))
+    told = numbers[:1] + (numbers[1:],)
     if not good_side_call(web, told):
         raise BadText(row[0])
     return told
